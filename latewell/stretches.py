@@ -33,13 +33,14 @@ def stretch_high(one):
     return one[1]
 
 
+def is_between(v, low, high):
+    """Whether v is not below low and not above high, None for no bound."""
+    return (low is None or low <= v) and (high is None or v <= high)
+
+
 def stretch_has(one, v):
     """Whether v is a value of the stretch."""
-    if one[0] is not None and v < one[0]:
-        return False
-    if one[1] is not None and v > one[1]:
-        return False
-    return v % one[2] == one[3]
+    return is_between(v, one[0], one[1]) and v % one[2] == one[3]
 
 
 def lower_bound(one, other):

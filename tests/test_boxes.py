@@ -1,12 +1,11 @@
 """Boxes and boxes by rows (points 8, 9), held against things gone through one by one."""
 
-import inspect
 import itertools
 import random
 import unittest
 
-from latewell import boxes
 from latewell.boxes import box_has, box_inside, box_made, box_meet, row_back, row_forth
+from samples import ONE_FROM_ROWS, by_row
 
 ALL_KEYS = ("but", ())
 ALL_VALUES = (None, None, 1, 0)
@@ -24,24 +23,6 @@ STRETCHES = (
 BOXES = [(keys, begin, end, stretch) for keys in KEYS for begin, end in SPANS for stretch in STRETCHES]
 SOME = random.Random(9).sample(BOXES, 60)
 THINGS = list(itertools.product(TIMES, NAMES, VALUES))
-ROWS = [
-    ("time", "x", ("y",), (0, None)), ("time", "x", ("y",), (2, 5)), ("time", "x", ("y",), (6, None)),
-    ("time", "x", ("y",), (0, 1)), ("time", "x", ("y",), (9, 999999999999)),
-    ("only", "x", ("y",), ("a",)), ("only", "x", ("y",), ("c", "a")), ("only", "x", ("y",), ("b", "c", "a")),
-    ("but", "x", ("y",), ("a",)), ("but", "x", ("y",), ("c", "b")), ("but", "x", ("y",), ("b", "c", "a")),
-    ("span", "x", ("y",), (None, None)), ("span", "x", ("y",), (-3, 4)), ("span", "x", ("y",), (None, 4)),
-    ("span", "x", ("y",), (5, None)), ("span", "x", ("y",), (-5, -5)), ("span", "x", ("y",), (-999999999999, 0)),
-    ("rest", "x", ("y",), (2, 0)), ("rest", "x", ("y",), (3, 2)), ("rest", "x", ("y",), (4, 3)),
-    ("rest", "x", ("y",), (1000, 4)), ("rest", "x", ("y",), (1000, 995)),
-    ("turn", "x", ("y",), (1, 0)), ("turn", "x", ("y",), (1, -7)), ("turn", "x", ("y",), (-1, 3)),
-    ("turn", "x", ("y",), (2, 1)), ("turn", "x", ("y",), (-3, -2)), ("turn", "x", ("y",), (6, 4)),
-    ("turn", "x", ("y",), (1000, 0)), ("turn", "x", ("y",), (-1000, 2)),
-    ("later", "x", ("y",), (0,)), ("later", "x", ("y",), (1,)), ("later", "x", ("y",), (4,)),
-    ("later", "x", ("y",), (8,)), ("later", "x", ("y",), (9,)), ("later", "x", ("y",), (20,)),
-    ("put", "x", ("y",), (("a", "b"),)), ("put", "x", ("y",), (("a", "a"),)),
-    ("put", "x", ("y",), (("a", "b"), ("b", "a"))), ("put", "x", ("y",), (("b", "c"), ("a", "b"))),
-    ("put", "x", ("y",), (("a", "c"), ("b", "c"))), ("put", "x", ("y",), (("c", "a"), ("b", "a"), ("a", "a"))),
-]
 
 
 def in_box(box, thing):
@@ -54,29 +35,6 @@ def in_box(box, thing):
         (key in names) == (word == "only") and begin <= time and (end is None or time < end)
         and (low is None or low <= value) and (high is None or value <= high) and value % step == rest
     )
-
-
-def by_row(row, thing):
-    """What comes of a thing by a row, by the very words of point 10; or None."""
-    word, name, froms, rest = row
-    time, key, value = thing
-    if word == "time":
-        return thing if rest[0] <= time and (rest[1] is None or time < rest[1]) else None
-    if word == "only":
-        return thing if key in rest else None
-    if word == "but":
-        return thing if key not in rest else None
-    if word == "span":
-        below = rest[0] is not None and value < rest[0]
-        above = rest[1] is not None and value > rest[1]
-        return None if below or above else thing
-    if word == "rest":
-        return thing if value % rest[0] == rest[1] else None
-    if word == "turn":
-        return (time, key, rest[0] * value + rest[1])
-    if word == "later":
-        return (time + rest[0], key, value)
-    return (time, dict(rest).get(key, key), value)
 
 
 class Form(unittest.TestCase):
@@ -184,7 +142,7 @@ class Rows(Form):
         inner = [thing for thing in THINGS if -12 <= thing[2] <= 12]
         dice = random.Random(10)
         whole = list(itertools.product(TIMES, NAMES, range(-60, 61)))
-        for row in ROWS:
+        for row in ONE_FROM_ROWS:
             for box in dice.sample(BOXES, 12) + [ALL]:
                 came = {by_row(row, thing) for thing in whole if in_box(box, thing)}
                 with self.subTest(row=row, box=box):
@@ -192,7 +150,7 @@ class Rows(Form):
 
     def test_back(self):
         dice = random.Random(11)
-        for row in ROWS:
+        for row in ONE_FROM_ROWS:
             turned = [(thing, by_row(row, thing)) for thing in THINGS]
             for box in dice.sample(BOXES, 20) + [ALL]:
                 wanted = [thing for thing, came in turned if came is not None and in_box(box, came)]
@@ -249,16 +207,6 @@ class Rows(Form):
         keys = ("h", "g", "f", "e", "d", "c", "b", "a")
         self.assertEqual(row_forth(("only", "x", ("y",), keys), ALL)[0], ("only", tuple(sorted(keys))))
         self.assertEqual(row_forth(("but", "x", ("y",), keys), ALL)[0], ("but", tuple(sorted(keys))))
-
-
-class Interface(unittest.TestCase):
-    def test_names_and_arguments(self):
-        for name, arguments in (
-            ("box_made", "keys begin end stretch"), ("box_meet", "one other"), ("row_forth", "row box"),
-            ("row_back", "row box"), ("box_has", "box thing"), ("box_inside", "one other"),
-        ):
-            told = inspect.signature(getattr(boxes, name)).parameters
-            self.assertEqual(list(told), arguments.split(), name)
 
 
 if __name__ == "__main__":

@@ -1,6 +1,5 @@
 """Keys and tables (point 7), held against keys gone through one by one."""
 
-import inspect
 import itertools
 import string
 import unittest
@@ -203,16 +202,6 @@ class Some(unittest.TestCase):
         self.assertEqual(keys_some(("but", ("c",)), others), "d")
         self.assertEqual(keys_some(("only", ("a", "c")), others), "c")
         self.assertEqual(others, ["b", "a"])
-
-
-class Interface(unittest.TestCase):
-    def test_names_and_arguments(self):
-        for name, arguments in (
-            ("is_key", "x"), ("keys_hold", "keys key"), ("keys_inside", "one other"), ("keys_meet", "one other"),
-            ("keys_put_back", "keys table"), ("keys_put", "keys table"), ("keys_some", "keys others"),
-        ):
-            told = inspect.signature(getattr(keysets, name)).parameters
-            self.assertEqual(list(told), arguments.split(), name)
 
 
 if __name__ == "__main__":

@@ -1,12 +1,10 @@
 """Stretches (points 4, 5, 6), held against values gone through one by one."""
 
-import inspect
 import itertools
 import math
 import random
 import unittest
 
-from latewell import stretches
 from latewell.stretches import (
     stretch_above, stretch_back, stretch_below, stretch_has, stretch_high, stretch_inside, stretch_low,
     stretch_made, stretch_meet, stretch_moved, stretch_not, stretch_some,
@@ -312,18 +310,6 @@ class Great(Form):
                 self.assertTrue(has(one, below[1]) and below[1] < c)
                 self.assertFalse(has(one, below[1] + one[2]) and below[1] + one[2] < c)
                 self.assertEqual(below[0], one[0])
-
-
-class Interface(unittest.TestCase):
-    def test_names_and_arguments(self):
-        for name, arguments in (
-            ("stretch_made", "low high step rest"), ("stretch_meet", "one other"), ("stretch_moved", "one a b"),
-            ("stretch_back", "one a b"), ("stretch_above", "one c"), ("stretch_below", "one c"),
-            ("stretch_has", "one v"), ("stretch_inside", "one other"), ("stretch_low", "one"),
-            ("stretch_high", "one"), ("stretch_some", "one"), ("stretch_not", "one v"),
-        ):
-            told = inspect.signature(getattr(stretches, name)).parameters
-            self.assertEqual(list(told), arguments.split(), name)
 
 
 if __name__ == "__main__":
