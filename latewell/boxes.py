@@ -3,9 +3,9 @@
 A thing is a tuple (time, key, value), a box a tuple (keys, begin, end, stretch) in the one form.
 """
 
-from latewell.keysets import EVERY_KEY, keys_hold, keys_inside, keys_meet, keys_put, keys_put_back
+from latewell.keysets import EVERY_KEY, keys_hold, keys_inside, keys_meet, keys_put, keys_put_back, keys_some
 from latewell.stretches import EVERY_VALUE, stretch_back, stretch_has, stretch_inside, stretch_made
-from latewell.stretches import stretch_meet, stretch_moved, upper_bound
+from latewell.stretches import stretch_meet, stretch_moved, stretch_some, upper_bound
 
 
 def box_made(keys, begin, end, stretch):
@@ -38,6 +38,24 @@ def box_inside(one, other):
     if one[1] < other[1] or upper_bound(one[2], other[2]) != one[2]:
         return False
     return keys_inside(one[0], other[0]) and stretch_inside(one[3], other[3])
+
+
+def thing_box(thing):
+    """The box that has just this thing."""
+    return box_made(("only", (thing[1],)), thing[0], thing[0] + 1, stretch_made(thing[2], thing[2], 1, 0))
+
+
+def box_some(box):
+    """A thing of the box: the earliest time, the first key, the value nearest to 0."""
+    return (box[1], keys_some(box[0], []), stretch_some(box[3]))
+
+
+def boxes_met(boxes, other):
+    """What each of the boxes has of the other box, None for no box; those that have nothing of it are left out."""
+    if other is None:
+        return []
+    met = [box_meet(box, other) for box in boxes]
+    return [box for box in met if box is not None]
 
 
 def box_sieved(row):

@@ -1,4 +1,4 @@
-"""What comes of one thing by one row (point 15)."""
+"""What comes of a thing by a row, and what comes to a row of what came to its FROMs (point 15)."""
 
 from latewell.boxes import box_has, box_sieved
 
@@ -14,3 +14,18 @@ def through_row(row, thing):
         return (thing[0], dict(rest).get(thing[1], thing[1]), thing[2])
     sieve = box_sieved(row)
     return thing if sieve is not None and box_has(sieve, thing) else None
+
+
+def through_froms(row, above, by_row):
+    """What comes to a chain that is no in, one FROM behind the other.
+
+    above is a dict, by their names, of lists of what came to the rows above, things or boxes; by_row tells
+    what comes of one of these by a row with one FROM, or None.
+    """
+    found = []
+    for name in row[2]:
+        found.extend(above[name])
+    if row[0] == "pour":
+        return found
+    found = [by_row(row, one) for one in found]
+    return [one for one in found if one is not None]

@@ -1,6 +1,6 @@
 """The plain answers: all comings gone through from the first one on (points 15 to 20)."""
 
-from latewell.chains import through_row
+from latewell.chains import through_froms, through_row
 from latewell.stretches import is_between
 from latewell.works import CHAINS, FOLDS
 
@@ -9,13 +9,7 @@ def things_of(row, things, comings):
     """The things that came to a chain; things is a dict of those of the rows above, by their names."""
     if row[0] == "in":
         return [coming[2:] for coming in comings if coming[0] == "thing" and coming[1] == row[1]]
-    found = []
-    for name in row[2]:
-        found.extend(things[name])
-    if row[0] == "pour":
-        return found
-    found = [through_row(row, thing) for thing in found]
-    return [thing for thing in found if thing is not None]
+    return through_froms(row, things, through_row)
 
 
 def chain_things(works, comings):

@@ -22,6 +22,13 @@ ONE_FROM_ROWS = [
     ("put", "x", ("y",), (("a", "c"), ("b", "c"))), ("put", "x", ("y",), (("c", "a"), ("b", "a"), ("a", "a"))),
 ]
 
+IN_BOUNDS = ((None, None), (-6, 6), (0, None), (None, 3), (-2, 9))
+# Ins with few values, so that all of them can be gone through.
+SMALL_BOUNDS = ((-6, 6), (-2, 9), (0, 4), (5, 5))
+MOST_CHAINS = 12
+# The drawn rows name a to d; "q" stands for all other keys.
+ALL_KEYS = ("a", "b", "c", "d", "q")
+
 
 def by_row(row, thing):
     """What comes of a thing by a row with one FROM, by the very words of point 10; or None."""
@@ -60,7 +67,7 @@ def text_of(works):
 def some_names(dice):
     """Names that are unlike, the words of rows among them."""
     names = ["in", "ask", "sum", "longname", "z", "aa", "ab", "but", "pair"]
-    names += [one + other for one in "klmn" for other in "uvwx"]
+    names += [one + other for one in "klmno" for other in "uvwx"]
     dice.shuffle(names)
     return iter(names)
 
@@ -85,25 +92,55 @@ def one_from_rest(dice, word):
     return tuple((key, dice.choice("abcd")) for key in dice.sample("abc", dice.randint(1, 2)))
 
 
-def some_chains(dice, names):
-    """Rows of chains, and for the name of each the ins below it."""
+def some_parts(dice):
+    """Words and rests of two to four rows, by just one of which each thing comes."""
+    word = dice.choice(("time", "only", "span", "rest"))
+    if word == "time":
+        return [(word, (0, 4)), (word, (4, 9)), (word, (9, None))]
+    if word == "only":
+        return [(word, ("a", "c")), ("but", ("c", "a"))]
+    if word == "span":
+        return [(word, (None, 0)), (word, (1, None))]
+    step = dice.randint(2, 4)
+    return [(word, (step, rest)) for rest in range(step)]
+
+
+def parted_rows(dice, names, below):
+    """Rows that part the things of a row, move some of the parts on, and pour them together again."""
+    rows, froms = [], []
+    for word, rest in some_parts(dice):
+        rows.append((word, next(names), (below,), rest))
+        if dice.random() < 0.3:
+            word = dice.choice(("turn", "later", "put"))
+            rows.append((word, next(names), (rows[-1][1],), one_from_rest(dice, word)))
+        froms.append(rows[-1][1])
+    dice.shuffle(froms)
+    return rows + [("pour", next(names), tuple(froms), ())]
+
+
+def some_chains(dice, names, bounds=IN_BOUNDS, apart=True):
+    """Rows of chains, and for the name of each the ins below it; where they are apart, as point 23 asks of a pour."""
     rows, ins = [], {}
     for _ in range(dice.randint(1, 3)):
         name = next(names)
-        rows.append(("in", name, (), dice.choice(((None, None), (-6, 6), (0, None), (None, 3), (-2, 9)))))
+        rows.append(("in", name, (), dice.choice(bounds)))
         ins[name] = {name}
-    words = ("time", "only", "but", "span", "rest", "turn", "later", "put", "pour")
+    words = ("time", "only", "but", "span", "rest", "turn", "later", "put", "pour", "parts")
     for _ in range(dice.randint(2, 8)):
-        name, word, first = next(names), dice.choice(words), dice.choice(list(ins))
-        apart = [other for other in ins if not ins[other] & ins[first]]
-        if word != "pour":
-            rows.append((word, name, (first,), one_from_rest(dice, word)))
-            ins[name] = ins[first]
-        elif apart:
-            # No thing of an in may come to a pour by two ways.
-            second = dice.choice(apart)
-            rows.append((word, name, (first, second), ()))
-            ins[name] = ins[first] | ins[second]
+        word, first = dice.choice(words), dice.choice(list(ins))
+        others = [other for other in ins if other != first and not (apart and ins[other] & ins[first])]
+        if word == "parts":
+            # Others may be needed behind these, and no works has more than twenty-four rows.
+            added = parted_rows(dice, names, first) if len(rows) < 4 else []
+        elif word == "pour":
+            added = [(word, next(names), (first, dice.choice(others)), ())] if others else []
+        else:
+            added = [(word, next(names), (first,), one_from_rest(dice, word))]
+        for row in added:
+            rows.append(row)
+            ins[row[1]] = set().union(*[ins[below] for below in row[2]])
+        if len(rows) >= MOST_CHAINS:
+            break
     return rows, ins
 
 
@@ -167,4 +204,31 @@ def some_comings(dice, works, count):
         else:
             comings.append(("close", name))
             marks.pop(name)
+    return comings
+
+
+def some_marks(dice, works):
+    """Marks of the ins of a works, about one in five of them closed."""
+    return {row[1]: dice.choice((0, 0, 3, 8, None)) for row in works if row[0] == "in"}
+
+
+def things_about(boxes, times, values):
+    """Things about the ends of boxes, of these times and values alone."""
+    for (word, names), begin, end, (low, high, step, rest) in boxes:
+        ends = [begin - 1, begin, begin + 1, begin + 5] + ([] if end is None else [end - 1, end, end + 1])
+        near = {0, 7}.union(*[{bound - 1, bound, bound + 1, bound + step, bound - step} for bound in (low, high)
+                              if bound is not None])
+        yield from itertools.product([time for time in ends if time in times], ALL_KEYS,
+                                     [value for value in sorted(near) if value in values])
+
+
+def still_comings(works, marks, end, values):
+    """All comings of things that keep the marks, with times below end and values of these."""
+    comings = []
+    for word, name, froms, rest in works:
+        if word == "in" and marks[name] is not None:
+            low, high = rest
+            mine = [v for v in values if (low is None or low <= v) and (high is None or v <= high)]
+            things = itertools.product(range(marks[name], end), ALL_KEYS, mine)
+            comings.extend([("thing", name) + thing for thing in things])
     return comings

@@ -6,6 +6,7 @@ import unittest
 
 from latewell.boxes import box_has, box_inside, box_made, box_meet, row_back, row_forth
 from samples import ONE_FROM_ROWS, by_row
+from walked import in_box
 
 ALL_KEYS = ("but", ())
 ALL_VALUES = (None, None, 1, 0)
@@ -23,18 +24,6 @@ STRETCHES = (
 BOXES = [(keys, begin, end, stretch) for keys in KEYS for begin, end in SPANS for stretch in STRETCHES]
 SOME = random.Random(9).sample(BOXES, 60)
 THINGS = list(itertools.product(TIMES, NAMES, VALUES))
-
-
-def in_box(box, thing):
-    """Whether a thing is one of the box, by the very words of points 4, 7 and 8."""
-    if box is None:
-        return False
-    (word, names), begin, end, (low, high, step, rest) = box
-    time, key, value = thing
-    return (
-        (key in names) == (word == "only") and begin <= time and (end is None or time < end)
-        and (low is None or low <= value) and (high is None or value <= high) and value % step == rest
-    )
 
 
 class Form(unittest.TestCase):

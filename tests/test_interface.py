@@ -31,6 +31,10 @@ INTERFACE = {
         ("chain_things", "works comings"), ("pairs_of", "row lefts rights"), ("fold_cells", "row things"),
         ("told_answer", "row amount"), ("plain_answers", "works comings"),
     ),
+    "forth": (("forth_boxes", "works marks"),),
+    "back": (("back_coming", "works marks name thing"),),
+    "checked": (("origins_of", "works name"), ("check_works", "works")),
+    "cells": (("boxes_turn", "works ask key window there boxes"),),
 }
 
 

@@ -7,100 +7,11 @@ import unittest
 
 from latewell.plain import chain_things, fold_cells, pairs_of, plain_answers, told_answer
 from latewell.works import read_works
-from samples import by_row, some_comings, some_works
+from samples import some_comings, some_works
+from walked import all_brought, answers_of, folded, paired
 
 FOLD_WORDS = ("count", "sum", "most", "least")
 HOWS = ("sum", "less", "left", "right")
-
-
-def brought(works, coming, name):
-    """What one coming brings to a chain, as a list of things."""
-    if coming[0] != "thing":
-        return []
-    row = {row[1]: row for row in works}[name]
-    if row[0] == "in":
-        return [coming[2:]] if coming[1] == name else []
-    things = [thing for below in row[2] for thing in brought(works, coming, below)]
-    if row[0] == "pour":
-        return things
-    return [by_row(row, thing) for thing in things if by_row(row, thing) is not None]
-
-
-def all_brought(works, comings, name):
-    return sorted(thing for coming in comings for thing in brought(works, coming, name))
-
-
-def paired(row, lefts, rights):
-    """The things of a pair, by the words of point 10."""
-    reach, how = row[3]
-    pairs = []
-    for left, right in itertools.product(lefts, rights):
-        if left[1] == right[1] and -reach <= left[0] - right[0] <= reach:
-            value = {
-                "sum": left[2] + right[2], "less": left[2] - right[2], "left": left[2], "right": right[2],
-            }[how]
-            pairs.append((left[0] if left[0] > right[0] else right[0], left[1], value))
-    return sorted(pairs)
-
-
-def amount(fold, values):
-    values = sorted(values)
-    return {"count": len(values), "sum": sum(values), "most": values[-1], "least": values[0]}[fold]
-
-
-def in_window(row, i, time):
-    """Whether a window of a fold has a time, by the words of point 17."""
-    if row[0] == "fixed":
-        return i * row[3][0] <= time < (i + 1) * row[3][0]
-    if row[0] == "slide":
-        return i * row[3][1] <= time < i * row[3][1] + row[3][0]
-    return i == 0
-
-
-def folded(row, things):
-    """The cells of a fold, each window and each key tried one by one."""
-    cells = []
-    last = max([thing[0] for thing in things], default=0)
-    for key in sorted({thing[1] for thing in things}):
-        mine = [thing for thing in things if thing[1] == key]
-        times = {thing[0] for thing in mine}
-        for i in range(-40, last + 1):
-            if row[0] == "gaps":
-                if i not in times or any(i - row[3][0] < time < i for time in times):
-                    continue
-                end = i
-                while any(end < time < end + row[3][0] for time in times):
-                    end = min(time for time in times if time > end)
-                values = [thing[2] for thing in mine if i <= thing[0] <= end]
-                cells.append(((key, i), (end, amount(row[3][-1], values))))
-            else:
-                values = [thing[2] for thing in mine if in_window(row, i, thing[0])]
-                if values:
-                    cells.append(((key, i), amount(row[3][-1], values)))
-    return cells
-
-
-def answers_of(works, comings):
-    """The plain answers, from each ask down to the ins."""
-    rows = {row[1]: row for row in works}
-    answers = {}
-    for word, name, froms, rest in works:
-        if word != "ask":
-            continue
-        fold = rows[froms[0]]
-        below = rows[fold[2][0]]
-        if below[0] == "pair":
-            things = paired(below, *[all_brought(works, comings, side) for side in below[2]])
-        else:
-            things = all_brought(works, comings, below[1])
-        cells = folded(fold, things)
-        if rest:
-            cells = [
-                (cell, told) for cell, told in cells
-                if (rest[0] is None or rest[0] <= told) and (rest[1] is None or told <= rest[1])
-            ]
-        answers[name] = cells
-    return answers
 
 
 def some_things(dice, count):
@@ -171,11 +82,7 @@ class ChainThings(unittest.TestCase):
         for _ in range(150):
             works = some_works(dice)
             comings = some_comings(dice, works, 30)
-            told = chain_things(works, comings)
-            chains = [row[1] for row in works if row[0] not in ("pair", "fixed", "slide", "gaps", "ever", "ask")]
-            self.assertEqual(sorted(told), sorted(chains))
-            for name in chains:
-                self.assertEqual(told[name], all_brought(works, comings, name), (works, name))
+            self.assertEqual(chain_things(works, comings), all_brought(works, comings), works)
 
 
 class Pairs(unittest.TestCase):
