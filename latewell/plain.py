@@ -4,6 +4,9 @@ from latewell.chains import through_froms, through_row
 from latewell.stretches import is_between
 from latewell.works import CHAINS, FOLDS
 
+# By each HOW, how many times the left and the right value stand in the value of a pair.
+SHARES = {"sum": (1, 1), "less": (1, -1), "left": (1, 0), "right": (0, 1)}
+
 
 def things_of(row, things, comings):
     """The things that came to a chain; things is a dict of those of the rows above, by their names."""
@@ -23,11 +26,8 @@ def chain_things(works, comings):
 
 def paired_value(how, left, right):
     """The value of the pair of a left and a right value."""
-    if how == "sum":
-        return left + right
-    if how == "less":
-        return left - right
-    return left if how == "left" else right
+    shares = SHARES[how]
+    return shares[0] * left + shares[1] * right
 
 
 def pairs_of(row, lefts, rights):

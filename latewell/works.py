@@ -192,3 +192,9 @@ def rows_below(works, name):
             for from_name in row[2]:
                 below[from_name] = True
     return [row[1] for row in works if row[1] in below]
+
+
+def chains_below(works, name):
+    """The chains on which a row stands, in the works' order."""
+    below = rows_below(works, name)
+    return [row for row in works if row[0] in CHAINS and row[1] in below]

@@ -166,10 +166,10 @@ def some_ask(dice, name, fold, chains):
     return ("ask", name, (below,), (low, dice.choice((None, (low or 0) + 3))))
 
 
-def some_works(dice):
+def some_works(dice, bounds=IN_BOUNDS):
     """A works of up to twenty-four rows."""
     names = some_names(dice)
-    rows, ins = some_chains(dice, names)
+    rows, ins = some_chains(dice, names, bounds)
     chains, pairs, folds = list(ins), [], []
     for _ in range(dice.randint(0, 2)):
         pairs.append(next(names))
@@ -188,10 +188,12 @@ def some_thing(dice, begin, low, high):
     return (begin + dice.choice((0, 0, 1, 3, 10)), dice.choice("aabbcde"), dice.randint(low, high))
 
 
-def some_comings(dice, works, count):
-    """A row of comings that keeps its marks."""
+def some_comings(dice, works, count, behind=None):
+    """A row of comings that keeps its marks, those that it stands behind where they are not the first ones."""
     bounds = {row[1]: row[3] for row in works if row[0] == "in"}
     marks = {name: 0 for name in bounds}
+    if behind is not None:
+        marks = {name: mark for name, mark in behind.items() if mark is not None}
     comings = []
     while len(comings) < count and marks:
         name = dice.choice(sorted(marks))
@@ -204,6 +206,16 @@ def some_comings(dice, works, count):
         else:
             comings.append(("close", name))
             marks.pop(name)
+    return comings
+
+
+def shut_further(dice, marks):
+    """Marks and closes behind these marks: some ins some way on, some closed, some left as they are."""
+    comings = []
+    for name, mark in marks.items():
+        word = dice.choice(("mark", "mark", "close", "none"))
+        if mark is not None and word != "none":
+            comings.append((word, name, mark + dice.choice((1, 3, 6, 10, 20)))[:3 if word == "mark" else 2])
     return comings
 
 

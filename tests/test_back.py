@@ -8,7 +8,7 @@ from latewell.back import back_coming
 from latewell.comings import first_marks
 from latewell.works import read_works
 from samples import IN_BOUNDS, SMALL_BOUNDS, some_chains, some_marks, some_names, some_works, still_comings, things_about
-from walked import all_brought, in_box, walked
+from walked import all_brought, thing_kept, walked
 
 ROWS = ("in a -4 20", "in b * *")
 MARKS = {"a": 6, "b": 3}
@@ -112,16 +112,8 @@ class Drawn(unittest.TestCase):
                 told = back_coming(works, marks, name, thing)
                 self.assertEqual(told is not None, thing in came, (works, marks, name, thing))
                 if told is not None:
-                    self.assertKept(works, marks, told)
+                    self.assertTrue(thing_kept(works, marks, told), told)
                     self.assertEqual(walked(works, told)[name], [thing], (works, told))
-
-    def assertKept(self, works, marks, coming):
-        """That a coming is let by, by the words of points 13 and 14."""
-        self.assertIs(type(coming), tuple)
-        word, name, time, key, value = coming
-        low, high = {row[1]: row[3] for row in works if row[0] == "in"}[name]
-        self.assertEqual(word, "thing")
-        self.assertTrue(in_box((("but", ()), marks[name], None, (low, high, 1, 0)), (time, key, value)), coming)
 
     def test_ins_with_few_values(self):
         dice = random.Random(65)

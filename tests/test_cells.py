@@ -388,6 +388,21 @@ class Pairs(Turning):
         ):
             self.assertIs(self.values(how, word, there, ([left], [right])), wanted, (how, word, left, right))
 
+    def test_values_at_an_end_of_each_side(self):
+        # What is there is too far from what can come to pair with it, so both ends must come.
+        for how, word, left, right in (
+            ("sum", "most", 5, 7), ("sum", "least", -4, -6), ("less", "most", 5, -6), ("less", "least", -4, 7),
+            ("left", "most", 5, None), ("left", "least", -4, None), ("right", "most", None, 7), ("right", "least", None, -6),
+        ):
+            sides = ((-4, 5, 3, 2), (-6, 7, 1, 0))
+            best = {"sum": (left or 0) + (right or 0), "less": (left or 0) - (right or 0), "left": left, "right": right}[how]
+            works = self.works(how, f"ever f p {word}", 0)
+            for amount, wanted in ((best - 1, word == "most"), (best, False), (best + 1, word == "least")):
+                pair = {"sum": (amount, 0), "less": (amount, 0), "left": (amount, 0), "right": (0, amount)}[how]
+                there = ([(4, "k", pair[0])], [(4, "k", pair[1])])
+                boxes = ([box(6, 9, sides[0])], [box(6, 9, sides[1])])
+                self.assertIs(boxes_turn(works, "q", "k", 0, there, boxes), wanted, (how, word, amount))
+
     def test_values_of_a_cell_without_pairs(self):
         for how, word in itertools.product(("sum", "less", "left", "right"), ("count", "most", "least")):
             for there, boxes in ((([], []), ([one(-9)], [one(9)])), (([3], []), ([], [one(-9)])), (([], [3]), ([one(9)], []))):

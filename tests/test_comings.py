@@ -8,6 +8,7 @@ from latewell.comings import check_coming, first_marks, marked, marks_behind
 from latewell.errors import Late, NoComing
 from latewell.works import read_works
 from samples import some_comings, some_works
+from walked import marks_of
 
 TEXT = """in all * *
 in few -3 5
@@ -197,10 +198,7 @@ class Behind(Refusals):
         for _ in range(200):
             works = some_works(dice)
             comings = some_comings(dice, works, dice.randint(0, 40))
-            wanted = {row[1]: 0 for row in works if row[0] == "in"}
-            for coming in comings:
-                if coming[0] != "thing":
-                    wanted[coming[1]] = coming[2] if coming[0] == "mark" else None
+            wanted = marks_of(works, comings)
             kept = copy.deepcopy((works, comings))
             self.assertEqual(marks_behind(works, comings), wanted)
             self.assertEqual((works, comings), kept)

@@ -35,6 +35,11 @@ INTERFACE = {
     "back": (("back_coming", "works marks name thing"),),
     "checked": (("origins_of", "works name"), ("check_works", "works")),
     "cells": (("boxes_turn", "works ask key window there boxes"),),
+    "turns": (
+        ("cell_turning", "works comings ask key window"), ("settles_at", "works comings ask key window name"),
+    ),
+    "papers": (("settled_paper", "works comings ask key window"),),
+    "checker": (("check_paper", "works comings ask key window paper"),),
 }
 
 

@@ -1,6 +1,7 @@
 """What the document's words tell, gone through one by one; nothing here asks the program."""
 
 import itertools
+import random
 
 from samples import by_row
 
@@ -17,6 +18,24 @@ def in_box(box, thing):
         (key in names) == (word == "only") and begin <= time and (end is None or time < end)
         and (low is None or low <= value) and (high is None or value <= high) and value % step == rest
     )
+
+
+def thing_kept(works, marks, coming):
+    """Whether a coming of a thing is let by, by the words of points 13 and 14."""
+    word, name, time, key, value = coming
+    if type(coming) is not tuple or word != "thing" or marks[name] is None:
+        return False
+    low, high = {row[1]: row[3] for row in works if row[0] == "in"}[name]
+    return in_box((("but", ()), marks[name], None, (low, high, 1, 0)), (time, key, value))
+
+
+def marks_of(works, comings):
+    """The marks behind a row of comings that keeps them."""
+    marks = {row[1]: 0 for row in works if row[0] == "in"}
+    for coming in comings:
+        if coming[0] != "thing":
+            marks[coming[1]] = coming[2] if coming[0] == "mark" else None
+    return marks
 
 
 def chains_of(works):
@@ -109,20 +128,62 @@ def answer(row, told):
     return None if (low is not None and told < low) or (high is not None and told > high) else told
 
 
+def asked(works, ask):
+    """The rows of an ask, of its fold and of the fold's FROM."""
+    rows = {row[1]: row for row in works}
+    fold = rows[rows[ask][2][0]]
+    return rows[ask], fold, rows[fold[2][0]]
+
+
+def sides_of(works, ask, brought):
+    """What was brought to a fold's FROM, one list, or to both sides of a pair, two lists."""
+    below = asked(works, ask)[2]
+    return [brought[name] for name in (below[2] if below[0] == "pair" else [below[1]])]
+
+
+def folded_things(below, sides):
+    """The things that come to a fold, of those of the sides of its FROM."""
+    return paired(below, *sides) if below[0] == "pair" else sides[0]
+
+
 def answers_of(works, comings):
     """The plain answers, from each ask down to the ins."""
-    rows = {row[1]: row for row in works}
     things = all_brought(works, comings)
     answers = {}
-    for row in works:
-        if row[0] != "ask":
-            continue
-        fold = rows[row[2][0]]
-        below = rows[fold[2][0]]
-        if below[0] == "pair":
-            mine = paired(below, *[things[side] for side in below[2]])
-        else:
-            mine = things[below[1]]
+    for name in [row[1] for row in works if row[0] == "ask"]:
+        row, fold, below = asked(works, name)
+        mine = folded_things(below, sides_of(works, name, things))
         cells = [(cell, answer(row, told)) for cell, told in folded(fold, mine)]
-        answers[row[1]] = [cell for cell in cells if cell[1] is not None]
+        answers[name] = [cell for cell in cells if cell[1] is not None]
     return answers
+
+
+def answer_of_sides(works, ask, key, i, sides):
+    """The answer of a cell where these things came to its sides."""
+    row, fold, below = asked(works, ask)
+    return answer(row, cell_amount(fold, key, i, folded_things(below, sides)))
+
+
+def cell_answer(works, ask, key, i, comings):
+    """The answer of a cell behind comings."""
+    return answer_of_sides(works, ask, key, i, sides_of(works, ask, all_brought(works, comings)))
+
+
+def turned_by(works, ask, key, i, comings, pool, twos=1000):
+    """Whether comings of a pool, one by one, up to four times, or in twos, turn a cell; so many twos at most."""
+    there = sides_of(works, ask, all_brought(works, comings))
+    each = set()
+    for coming in pool:
+        sides = sides_of(works, ask, walked(works, coming))
+        each.add(tuple(tuple(thing for thing in side if thing[1] == key) for side in sides))
+    each = sorted(each)
+    rows = [(one,) * often for one in each for often in (1, 2, 3, 4)]
+    if len(each) * (len(each) - 1) // 2 > twos:
+        each = random.Random(len(each)).sample(each, int((2 * twos) ** 0.5))
+    rows += itertools.combinations(each, 2)
+    now = answer_of_sides(works, ask, key, i, there)
+    for row in rows:
+        more = [side + [thing for one in row for thing in one[number]] for number, side in enumerate(there)]
+        if answer_of_sides(works, ask, key, i, more) != now:
+            return True
+    return False
